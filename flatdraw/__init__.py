@@ -1,0 +1,1 @@
+"""Flatdraw: webs drawn without a crossing, or knotted."""
