@@ -37,5 +37,5 @@ def _ringed(rows, hub, end):
     Two ties from the hub are in a ring just where one comes from the far end of the one to that
     of the other without the hub.
     """
-    near = reached(rows, end, hub)
+    near = reached(rows, end, [hub])
     return [(min(hub, point), max(hub, point)) for point in rows[hub] if point in near]

@@ -12,7 +12,7 @@ class Web:
 
     def __init__(self, many, ties):
         # No refusal shows what it refuses: to write out a very long number would be an error of its own.
-        if not _is_number(many) or not 1 <= many <= MOST_POINTS:
+        if not is_number(many) or not 1 <= many <= MOST_POINTS:
             raise NoWeb("the count of points is a whole number from 1 to 16")
         if type(ties) != list or len(ties) > MOST_TIES:
             raise NoWeb("the ties are a list of up to 40")
@@ -41,7 +41,7 @@ class Web:
         return [piece for point, piece in enumerate(around) if piece[0] == point]
 
     def _check_point(self, thing):
-        if not _is_point(self.many, thing):
+        if not is_point(self.many, thing):
             raise NoPoint("no point of the web")
 
 
@@ -63,13 +63,15 @@ def _is_tie(many, thing):
     if type(thing) != tuple or len(thing) != 2:
         return False
     one, other = thing
-    return _is_point(many, one) and _is_point(many, other) and one != other
+    return is_point(many, one) and is_point(many, other) and one != other
 
 
-def _is_point(many, thing):
-    return _is_number(thing) and 0 <= thing < many
+def is_point(many, thing):
+    """Whether this is a point of a web of so many points."""
+    return is_number(thing) and 0 <= thing < many
 
 
-def _is_number(thing):
+def is_number(thing):
+    """Whether this is a whole number."""
     # The exact kind is asked for, because isinstance would take True and False for numbers.
     return type(thing) == int
